@@ -1,0 +1,1 @@
+"""Boards pressed from cores and foils: boardpresses.desk.answers is the way in."""

@@ -38,6 +38,10 @@ class Board:
             raise WrongNeed()
         self.needed = [span for span in self.needed if span != (a, b)]
 
+    def turn(self):
+        over = self.layers + 1
+        self.needed = sorted([(over - b, over - a) for a, b in self.needed])
+
     def check_span(self, a, b):
         if not 1 <= a < b <= self.layers:
             raise OutOfRange()

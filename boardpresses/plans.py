@@ -1,9 +1,10 @@
-"""What is asked of all plans that serve all needed spans."""
+"""What is asked of the plans that serve all needed spans."""
 
 from boardpresses.measures import Count, FewestPresses, LeastDepth, Weight
-from boardpresses.parts import Part
-from boardpresses.refusals import NoPlan, OutOfRange
-from boardpresses.ways import Ways, cuts_of, ends_of
+from boardpresses.order import DepthChooser, FewestPressesChooser, NumberChooser, chosen_part, number_of
+from boardpresses.parts import spans_of
+from boardpresses.refusals import NoPlan, NoSuchNumber, NotServing, OutOfRange
+from boardpresses.ways import Ways
 
 MOST_WEIGHT = 1000000
 
@@ -42,24 +43,32 @@ def least_depth(board):
 
 def first_with_fewest_presses(board):
     check_some_plan(board)
-    return best_part(Ways(FewestPresses(), board), 1, board.layers)
+    return chosen_part(FewestPressesChooser(), Ways(FewestPresses(), board), 1, board.layers)
 
 
-# The first part of the layers a to b with the fewest presses.
-def best_part(ways, a, b):
-    if b - a < 2:
-        return Part(a, b, [])
-    cuts = cuts_of(ways.needed, a, b)
-    parts = []
-    first = a
-    while first <= b:
-        last = best_end(ways, ends_of(cuts, a, b, first), first, b)
-        # A plan has the fewest presses only if each part has, so the parts are chosen one by one.
-        parts.append(best_part(ways, first, last))
-        first = last + 1
-    return Part(a, b, parts)
+def first_with_least_depth(board):
+    check_some_plan(board)
+    ways = Ways(LeastDepth(), board)
+    return chosen_part(DepthChooser(ways.whole[(1, board.layers)]), ways, 1, board.layers)
 
 
-def best_end(ways, ends, first, b):
-    # Of several that are least, min takes the one that comes first: the least layer, as the order of plans asks.
-    return min(ends, key=lambda last: ways.row(first, last, b))
+def plan_with_number(board, number):
+    ways = Ways(Count(), board)
+    if not 0 <= number < ways.whole[(1, board.layers)]:
+        raise NoSuchNumber()
+    return chosen_part(NumberChooser(number), ways, 1, board.layers)
+
+
+def serves_all(board, plan):
+    spans = spans_of(plan)
+    return all([span in spans for span in board.needed])
+
+
+def number_of_plan(board, plan):
+    if not serves_all(board, plan):
+        raise NotServing()
+    return number_of(plan, Ways(Count(), board))
+
+
+def plan_behind(board, plan):
+    return plan_with_number(board, number_of_plan(board, plan) + 1)

@@ -28,3 +28,33 @@ class TooManyNeeded(Refusal):
 class NoPlan(Refusal):
     def __init__(self):
         Refusal.__init__(self, -4)
+
+
+# There is no plan of that number.
+class NoSuchNumber(Refusal):
+    def __init__(self):
+        Refusal.__init__(self, -5)
+
+
+# What is read isn't a plan of the board.
+class NotAPlan(Refusal):
+    def __init__(self):
+        Refusal.__init__(self, -6)
+
+
+# The plan doesn't serve all needed spans.
+class NotServing(Refusal):
+    def __init__(self):
+        Refusal.__init__(self, -7)
+
+
+# The text has more bytes than are read.
+class TooLong(Refusal):
+    def __init__(self):
+        Refusal.__init__(self, -8)
+
+
+# The text is wrong at a place.
+class WrongText(Refusal):
+    def __init__(self, place):
+        Refusal.__init__(self, -1000 - place)

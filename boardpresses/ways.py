@@ -50,6 +50,11 @@ class Ways:
 
     # The value of a part with the layers first to last and, behind it, of all that reaches to b.
     def row(self, first, last, b):
+        return self.measure.row(self.whole[(first, last)], self.rows_behind(last, b))
+
+    # The value of all rows that may stand behind a part which ends at last, in a press which ends at b.
+    def rows_behind(self, last, b):
         if last == b:
-            return self.whole[(first, last)]
-        return self.measure.row(self.whole[(first, last)], self.rest[(last + 1, b)])
+            # Nothing stands behind the last part, and that weighs no more than a foil.
+            return self.measure.single()
+        return self.rest[(last + 1, b)]

@@ -3,11 +3,28 @@
 A part is a tuple: (layer,) for a foil, (a, a + 1) for a core, ("press", part, part ..) for a press.
 """
 
+import re
 from functools import lru_cache
 
 from boardpresses.desk import answers
 
 BEGIN, NEED, DROP, NEEDS, CLASH, COUNT, WEIGH, LEAST, DEPTH, BEST = range(10)
+FLAT, PLAN, RANK, NEXT, CHECK, SPANS, MIRROR, STEPS, TURN = range(10, 19)
+# The calls that read a text.
+READING = (RANK, NEXT, CHECK, SPANS, MIRROR, STEPS)
+# The most calls in one list.
+MOST_CALLS = 100
+
+# Twelve spans on 24 layers: side by side, within one another, at both ends, and in a long row of steps.
+LARGE = (
+    tuple((2 * k - 1, 2 * k) for k in range(1, 13)),
+    tuple((13 - k, 12 + k) for k in range(1, 13)),
+    tuple((1, b) for b in range(13, 25)),
+    tuple((a, 24) for a in range(1, 13)),
+    ((1, 2), (4, 5), (7, 8), (10, 11), (13, 14), (16, 17), (19, 20), (22, 23), (1, 8), (10, 17), (1, 23), (19, 23)),
+    ((2, 3), (2, 4), (6, 9), (7, 9), (11, 20), (12, 19), (13, 14), (16, 18), (22, 24)),
+    (),
+)
 
 
 def ask(*calls):
@@ -27,6 +44,26 @@ def ask_board(layers, needed, *calls):
     """The answers to calls on a board with these layers and needed spans."""
     ahead = [(BEGIN, layers)] + [(NEED, a, b) for a, b in needed]
     return ask(*ahead, *calls)[len(ahead):]
+
+
+def ask_many(layers, needed, calls):
+    """The answers to any number of calls on such a board, asked in as many lists as it takes."""
+    told = []
+    room = MOST_CALLS - 1 - len(needed)
+    for place in range(0, len(calls), room):
+        told.extend(ask_board(layers, needed, *calls[place:place + room]))
+    return told
+
+
+def reading(number, text):
+    """A call with a text, which is given as a text or as bytes."""
+    data = text.encode("ascii") if isinstance(text, str) else bytes(text)
+    return (number, len(data), *data)
+
+
+def bytes_answer(text):
+    """What answers a text."""
+    return [len(text)] + list(text.encode("ascii"))
 
 
 def text_in(answer):
@@ -104,11 +141,43 @@ def text(part):
     return str(part[0]) if len(part) == 1 else "[%d %d]" % part
 
 
+def cores(part):
+    return sum(cores(inner) for inner in part[1:]) if is_pressed(part) else len(part) - 1
+
+
+def turned_over(part, layers):
+    if is_pressed(part):
+        return ("press",) + tuple(turned_over(inner, layers) for inner in part[:0:-1])
+    return tuple(layers + 1 - layer for layer in part[::-1])
+
+
+def work(part):
+    """The cores and presses in the order of work, each as 0 or 1 and its span."""
+    if not is_pressed(part):
+        return [(0, *part)] if len(part) == 2 else []
+    done = [step for inner in part[1:] for step in work(inner)]
+    return done + [(1, first_layer(part), last_layer(part))]
+
+
+def parse(written):
+    """The part that a text without faults tells."""
+    rows = [[]]
+    for token in re.findall(r"\[\d+ \d+\]|\d+|[()]", written):
+        if token == "(":
+            rows.append(["press"])
+        elif token == ")":
+            closed = tuple(rows.pop())
+            rows[-1].append(closed)
+        else:
+            rows[-1].append(tuple(int(layer) for layer in re.findall(r"\d+", token)))
+    return rows[0][0]
+
+
 @lru_cache(maxsize=None)
 def all_plans(layers):
-    """All plans of a board in order, each with its spans, presses, depth and text."""
+    """All plans of a board in order, each with its spans, presses, depth, text, and the part itself."""
     plans = sorted(parts_of(1, layers), key=order)
-    return [(spans(plan), presses(plan), depth(plan), text(plan)) for plan in plans]
+    return [(spans(plan), presses(plan), depth(plan), text(plan), plan) for plan in plans]
 
 
 def plans_that_serve(layers, needed):
@@ -118,6 +187,11 @@ def plans_that_serve(layers, needed):
 
 def all_spans(layers):
     return [(a, b) for a in range(1, layers) for b in range(a + 1, layers + 1)]
+
+
+def turned_spans(needed, layers):
+    """The needed spans turned over, in order."""
+    return sorted((layers + 1 - b, layers + 1 - a) for a, b in needed)
 
 
 def slow_value(layers, needed, weight, deepest=24):
@@ -159,3 +233,38 @@ def slow_fewest(layers, needed):
         total //= weight
         power += 1
     return power
+
+
+def slow_flat(layers, needed):
+    """The first plan of the least depth: the depths are tried from 0 on, and for each one all parts in order."""
+    memo = {}
+
+    def first_row(a, b, i, limit):
+        """The first row of parts, none deeper than the limit, from layer i to the end of the press a b."""
+        if i > b:
+            return ()
+        key = (a, b, i, limit)
+        if key not in memo:
+            ends = [e for e in range(i, b + 1) if (i, e) != (a, b) and (e > i or i in (a, b))]
+            free = [e for e in ends if not any(a <= c <= e < d <= b and (c, d) != (a, b) for c, d in needed)]
+            memo[key] = None
+            for e in free:
+                part = first_part(i, e, limit)
+                behind = first_row(a, b, e + 1, limit) if part else None
+                if behind is not None:
+                    memo[key] = (part,) + behind
+                    break
+        return memo[key]
+
+    def first_part(a, b, limit):
+        if b - a < 2:
+            return tuple(range(a, b + 1))
+        row = first_row(a, b, a, limit - 1) if limit > 0 else None
+        return None if row is None else ("press",) + row
+
+    found = None
+    limit = 0
+    while found is None and limit < layers:
+        found = first_part(1, layers, limit)
+        limit += 1
+    return found

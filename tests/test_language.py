@@ -21,6 +21,17 @@ TWO_UNDERSCORES = {"__init__", "__eq__", "__repr__", "__str__", "__len__"}
 BARRED_WORDS = set("""type typing typing_extensions enum Enum IntEnum StrEnum Flag IntFlag Generic Protocol ABC ABCMeta
 namedtuple NamedTuple TypedDict TYPE_CHECKING abstractmethod""".split())
 BARRED_NAMES = set("register mro elements open input version_info with_traceback add_note format format_map".split())
+# Names that stand nowhere in the package, though Python has most of them as its own.
+BARRED_NAMES |= set("""attrgetter breakpoint builtins compile copyright credits delattr dir eval exec exit gc getattr
+globals hasattr help id importlib license locals methodcaller os quit setattr super type vars sys chr""".split())
+# What is walked on the spot, and the calls of Python's own that may walk it.
+WALKED = {"zip", "enumerate", "reversed", "range"}
+WALKED_METHODS = {"items", "keys", "values"}
+WALKERS = {"list", "tuple", "dict", "sorted", "sum", "any", "all", "enumerate", "zip", "min", "max"}
+KEYWORDS = {
+    "sorted": {"key", "reverse"}, "min": {"key", "default"}, "max": {"key", "default"}, "sum": {"start"},
+    "enumerate": {"start"}, "zip": {"strict"},
+}
 BARRED_FILES = set("test tests testing site conftest sitecustomize usercustomize".split()) | set(dir(builtins))
 STATEMENTS = (ast.Assign, ast.AugAssign, ast.If, ast.While, ast.For, ast.Return, ast.Break, ast.Continue, ast.Pass,
               ast.Raise, ast.Try, ast.Expr, ast.FunctionDef, ast.ClassDef, ast.ImportFrom)
@@ -123,6 +134,26 @@ class Statements(unittest.TestCase):
             if isinstance(node, ast.Expr) and node not in TREES[name].body[:1]:
                 self.assertIsInstance(node.value, ast.Call, (name, node.lineno))
 
+    def test_no_annotations(self):
+        self.assertEqual(nodes(ast.AnnAssign), [])
+        for name, node in nodes(ast.FunctionDef):
+            self.assertIsNone(node.returns, (name, node.lineno))
+        for name, node in nodes(ast.arg):
+            self.assertIsNone(node.annotation, (name, node.arg))
+
+    def test_tops_hold_plain_values(self):
+        for name, tree in TREES.items():
+            functions = {node.name for node in tree.body if isinstance(node, ast.FunctionDef)}
+            for top in [node for node in tree.body if isinstance(node, ast.Assign)]:
+                inner = top.value.elts if isinstance(top.value, ast.Tuple) else [top.value]
+                for value in inner:
+                    plain = isinstance(value, ast.Constant) or getattr(value, "id", None) in functions
+                    self.assertTrue(plain, (name, top.lineno))
+
+    def test_an_assignment_has_one_name(self):
+        for name, node in nodes(ast.Assign):
+            self.assertIsInstance(node.targets[0], (ast.Name, ast.Attribute, ast.Subscript), (name, node.lineno))
+
     def test_functions(self):
         for name, node in nodes(ast.FunctionDef, ast.Lambda):
             given = node.args
@@ -170,6 +201,54 @@ class Expressions(unittest.TestCase):
         free = OWN_METHODS | own_methods() | own_values() | TWO_UNDERSCORES
         for name, node in nodes(ast.Attribute):
             self.assertIn(node.attr, free - BARRED_NAMES, (name, node.lineno))
+
+
+class Calls(unittest.TestCase):
+    def test_what_is_walked_on_the_spot(self):
+        walked = []
+        for _, node in nodes(ast.For, ast.comprehension):
+            walked.append(node.iter)
+        for _, node in nodes(ast.Call):
+            if isinstance(node.func, ast.Name) and node.func.id in WALKERS:
+                walked.extend(node.args[:1])
+        for name, node in nodes(ast.Call):
+            called = getattr(node.func, "id", None)
+            method = getattr(node.func, "attr", None)
+            if called in WALKED or method in WALKED_METHODS:
+                self.assertIn(node, walked, (name, node.lineno))
+
+    def test_keywords(self):
+        for name, node in nodes(ast.Call):
+            allowed = KEYWORDS.get(getattr(node.func, "id", None), set())
+            if getattr(node.func, "id", None) in OWN_NAMES or getattr(node.func, "attr", None) in OWN_METHODS:
+                self.assertLessEqual({keyword.arg for keyword in node.keywords}, allowed, (name, node.lineno))
+
+    def test_python_s_own_are_called_and_not_kept(self):
+        called = [node.func for _, node in nodes(ast.Call)]
+        bases = [base for _, node in nodes(ast.ClassDef) for base in node.bases]
+        for name, node in nodes(ast.Name):
+            if node.id in OWN_NAMES:
+                self.assertTrue(node in called or node in bases, (name, node.lineno))
+
+    def test_methods_are_called_where_they_stand(self):
+        called = [node.func for _, node in nodes(ast.Call)]
+        for name, node in nodes(ast.Attribute):
+            if node.attr in (OWN_METHODS | own_methods()) - own_values():
+                self.assertIn(node, called, (name, node.lineno))
+
+    def test_no_sets(self):
+        for name, node in nodes(ast.Name):
+            self.assertNotIn(node.id, ("set", "frozenset"), (name, node.lineno))
+
+    def test_what_a_loop_walks_is_not_changed_in_it(self):
+        changes = {"append", "clear", "extend", "insert", "pop", "remove", "reverse", "setdefault", "update"}
+        for name, loop in nodes(ast.For):
+            walked = {ast.dump(node) for node in ast.walk(loop.iter) if isinstance(node, (ast.Name, ast.Attribute))}
+            for node in [inner for row in loop.body for inner in ast.walk(row)]:
+                if isinstance(node, ast.Call) and getattr(node.func, "attr", None) in changes:
+                    self.assertNotIn(ast.dump(node.func.value), walked, (name, node.lineno))
+                if isinstance(node, ast.Subscript) and isinstance(node.ctx, ast.Store):
+                    self.assertNotIn(ast.dump(node.value), walked, (name, node.lineno))
 
 
 class Names(unittest.TestCase):

@@ -4,16 +4,13 @@ import itertools
 import random
 import unittest
 
-from plain_plans import BEST, COUNT, DEPTH, LEAST, NEEDS, WEIGH
-from plain_plans import all_plans, all_spans, ask, ask_board, plans_that_serve, slow_fewest, slow_value, text_in
+from plain_plans import BEST, COUNT, DEPTH, LARGE, LEAST, NEEDS, WEIGH
+from plain_plans import all_plans, all_spans, ask, ask_board, bytes_answer, plans_that_serve, slow_fewest, slow_value
+from plain_plans import text_in
 
 FAR = 10 ** 18
 DIVISOR = 1000000007
 ASKED = ((COUNT,), (LEAST,), (DEPTH,), (BEST,), (WEIGH, 0), (WEIGH, 1), (WEIGH, 2), (WEIGH, 1000000))
-
-
-def bytes_answer(text):
-    return [len(text)] + list(text.encode("ascii"))
 
 
 def plain_answers(layers, needed):
@@ -160,18 +157,6 @@ class NoPlanServesAll(unittest.TestCase):
         needed = [(1, 24), (2, 20), (3, 18), (9, 11), (11, 12)]
         told = ask_board(24, needed, (COUNT,), (WEIGH, 7), (LEAST,), (DEPTH,), (BEST,))
         self.assertEqual(told, [[0], [0], [-4], [-4], [-4]])
-
-
-# Twelve spans on 24 layers: side by side, within one another, at both ends, and in a long row of steps.
-LARGE = (
-    tuple((2 * k - 1, 2 * k) for k in range(1, 13)),
-    tuple((13 - k, 12 + k) for k in range(1, 13)),
-    tuple((1, b) for b in range(13, 25)),
-    tuple((a, 24) for a in range(1, 13)),
-    ((1, 2), (4, 5), (7, 8), (10, 11), (13, 14), (16, 17), (19, 20), (22, 23), (1, 8), (10, 17), (1, 23), (19, 23)),
-    ((2, 3), (2, 4), (6, 9), (7, 9), (11, 20), (12, 19), (13, 14), (16, 18), (22, 24)),
-    (),
-)
 
 
 class LargeBoards(unittest.TestCase):
